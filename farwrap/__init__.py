@@ -1,0 +1,1 @@
+"""Machine integers that wrap, asked over all of their values and over very long runs."""

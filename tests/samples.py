@@ -1,0 +1,27 @@
+"""Kinds for the tests, with their values worked out by the words of the document."""
+
+from farwrap.kinds import Kind
+
+BYTE = Kind(8, False)
+SMALL = Kind(8, True)
+WORD = Kind(16, False)
+HUGE = 10 ** 999
+
+
+def all_kinds(most=128):
+    return [Kind(bits, is_signed) for bits in range(1, most + 1) for is_signed in (False, True)]
+
+
+def bounds(kind):
+    """The least and the greatest value, as point 5 tells them."""
+    bits, is_signed = kind.parts()
+    if is_signed:
+        return -(2 ** (bits - 1)), 2 ** (bits - 1) - 1
+    return 0, 2 ** bits - 1
+
+
+def wrap(kind, n):
+    """The value that is equal to n modulo 2 ** w, as point 6 tells it."""
+    size = 2 ** kind.parts()[0]
+    n = n % size
+    return n if n <= bounds(kind)[1] else n - size

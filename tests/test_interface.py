@@ -1,0 +1,63 @@
+"""The interface: names, arguments, the files of definition, and the methods of classes."""
+
+import importlib
+import inspect
+import unittest
+
+FUNCTIONS = {
+    "farwrap.wholes": {"is_integer": ["value"]},
+    "farwrap.kinds": {
+        "least": ["kind"],
+        "greatest": ["kind"],
+        "is_value": ["kind", "x"],
+        "wrapped": ["kind", "n"],
+        "cast": ["kinds", "n"],
+        "operate": ["kind", "name", "x", "y"],
+        "overflows": ["kind", "name", "x", "y"],
+        "inverse": ["kind", "x"],
+        "twos": ["kind", "x"],
+    },
+}
+CLASSES = {
+    "farwrap.errors": {
+        "WrapError": (None, {}),
+        "InvalidKind": (["part"], {}),
+        "InvalidBound": (["argument"], {}),
+        "InvalidCall": (["call"], {}),
+        "LimitExceeded": (["limit"], {}),
+    },
+    "farwrap.kinds": {"Kind": (["bits", "is_signed"], {"parts": [], "__eq__": ["other"]})},
+}
+
+
+class InterfaceTest(unittest.TestCase):
+
+    def check_arguments(self, call, names):
+        parameters = list(inspect.signature(call).parameters.values())
+        self.assertEqual([parameter.name for parameter in parameters], names)
+        for parameter in parameters:
+            self.assertEqual(parameter.kind, inspect.Parameter.POSITIONAL_OR_KEYWORD)
+
+    def test_functions(self):
+        for path, functions in FUNCTIONS.items():
+            for name, arguments in functions.items():
+                function = getattr(importlib.import_module(path), name)
+                self.assertTrue(inspect.isfunction(function))
+                self.assertEqual(function.__module__, path)
+                self.check_arguments(function, arguments)
+
+    def test_classes(self):
+        for path, classes in CLASSES.items():
+            for name, (fields, methods) in classes.items():
+                found = getattr(importlib.import_module(path), name)
+                self.assertTrue(inspect.isclass(found))
+                self.assertEqual(found.__module__, path)
+                if fields is not None:
+                    self.check_arguments(found, fields)
+                for method, arguments in methods.items():
+                    self.assertIn(method, vars(found))
+                    self.check_arguments(vars(found)[method], ["self", *arguments])
+
+
+if __name__ == "__main__":
+    unittest.main()

@@ -1,0 +1,43 @@
+"""Plain integers: point 2 and the interface, and the helpers beside them."""
+
+import math
+import unittest
+from fractions import Fraction
+
+from farwrap.wholes import is_integer, odd_inverse, toward_zero
+from tests.wrong import no_integers
+
+
+class IsIntegerTest(unittest.TestCase):
+
+    def test_integers(self):
+        for value in (0, 1, -1, 255, 2 ** 128, -(2 ** 128), 10 ** 999, -(10 ** 999)):
+            self.assertIs(is_integer(value), True)
+            self.assertIs(is_integer(value=value), True)
+
+    def test_true_and_false_are_no_integers(self):
+        self.assertIs(is_integer(True), False)
+        self.assertIs(is_integer(False), False)
+
+    def test_other_objects_are_no_integers(self):
+        for value in no_integers():
+            self.assertIs(is_integer(value), False)
+
+
+class HelpersTest(unittest.TestCase):
+
+    def test_quotients_are_rounded_toward_zero(self):
+        for x in range(-20, 21):
+            for y in (*range(-20, 0), *range(1, 21)):
+                self.assertEqual(toward_zero(x, y), math.trunc(Fraction(x, y)))
+
+    def test_inverses_of_odd_integers(self):
+        for bits in range(1, 130):
+            for x in (1, 3, 5, 7, -1, -3, 2 ** 127 - 1, 10 ** 999 + 1, -(10 ** 999) - 7):
+                y = odd_inverse(x, bits)
+                self.assertTrue(0 <= y < 2 ** bits)
+                self.assertEqual((x * y - 1) % 2 ** bits, 0)
+
+
+if __name__ == "__main__":
+    unittest.main()

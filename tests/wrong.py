@@ -1,0 +1,106 @@
+"""Wrong arguments of all types, and checks that each of them leads to the stated error."""
+
+from itertools import combinations
+
+from farwrap import errors
+from farwrap.errors import InvalidBound
+from farwrap.kinds import Kind
+
+DEPTH = 1980
+
+
+def nested_list(depth=DEPTH):
+    value = []
+    for _ in range(depth):
+        value = [value]
+    return value
+
+
+def nested_tuple(depth=DEPTH):
+    value = ()
+    for _ in range(depth):
+        value = (value,)
+    return value
+
+
+def nested_dict(depth=DEPTH):
+    value = {}
+    for _ in range(depth):
+        value = {0: value}
+    return value
+
+
+def other_objects():
+    """Objects that are neither integers, nor booleans, strings, lists or kinds."""
+    return [
+        None, 1j, b"add", bytearray(b"add"), memoryview(b"add"), (), (1,), (True, 2), {}, {"add": 1},
+        set(), {1, 2}, frozenset(), range(3), slice(1, 2), Ellipsis, NotImplemented, object(),
+        int, bool, Kind, InvalidBound, len, other_objects, lambda x: x, errors, iter([1]), zip([1]),
+        (x for x in (1, 2)), ValueError("add"), InvalidBound("x"), nested_tuple(), nested_dict(),
+    ]
+
+
+def no_integers():
+    return other_objects() + [
+        True, False, "", "1", "add", [], [1], [True], [Kind(8, False)], Kind(8, False), nested_list(),
+    ]
+
+
+def no_booleans():
+    return other_objects() + [0, 1, -1, 2, "", "True", [], [True], Kind(8, False), nested_list()]
+
+
+def no_strings():
+    return other_objects() + [True, False, 0, 1, [], ["add"], Kind(8, False), nested_list()]
+
+
+def no_kinds():
+    return other_objects() + [
+        True, False, 0, 8, "", "kind", [], [Kind(8, False)], (8, False), (Kind(8, False),), nested_list(),
+    ]
+
+
+def no_rows():
+    """Objects that are no list of 1 to 20 kinds."""
+    byte = Kind(8, False)
+    return other_objects() + [
+        True, False, 0, 1, "", "kinds", byte, (byte,), {0: byte}, [], [byte] * 21, [byte] * 400,
+        [0], [True], [None], ["byte"], [(8, False)], [byte, None], [None, byte], [byte] * 19 + [8],
+        [[byte]], [byte, [byte]], [Kind], [{}], [set()], nested_list(), [byte, nested_list()],
+        [byte, nested_tuple()],
+    ]
+
+
+def not_values(kind):
+    """Objects that are no value of a kind, worked out from its parts."""
+    bits, is_signed = kind.parts()
+    low = -(2 ** (bits - 1)) if is_signed else 0
+    high = low + 2 ** bits - 1
+    return no_integers() + [low - 1, high + 1, low - 2 ** bits, high + 2 ** bits, 10 ** 999, -(10 ** 999)]
+
+
+def check_bounds(case, call, right, wrong):
+    """Check that `call` names the first wrong argument, for each one alone and for all sets of them.
+
+    `right` maps the names of the arguments, in their order, to ones that are taken, and `wrong`
+    some of these names to lists of ones that are not.
+    """
+    call(**right)
+    for name, values in wrong.items():
+        for place, value in enumerate(values):
+            check_bound(case, call, {**right, name: value}, name, place)
+    for count in range(2, len(wrong) + 1):
+        for names in combinations([name for name in right if name in wrong], count):
+            for place in range(max(len(wrong[name]) for name in names)):
+                changes = {name: wrong[name][place % len(wrong[name])] for name in names}
+                check_bound(case, call, {**right, **changes}, names[0], place)
+
+
+def check_bound(case, call, arguments, name, place=0):
+    """Check that a call raises InvalidBound(name), with arguments by name and by position."""
+    for form in (lambda: call(**arguments), lambda: call(*arguments.values())):
+        # The wrong object itself is not shown: it may be nested too deep for that.
+        with case.subTest(function=call.__name__, argument=name, place=place):
+            with case.assertRaises(InvalidBound) as caught:
+                form()
+            case.assertEqual(caught.exception.argument, name)
