@@ -2,7 +2,8 @@
 
 from farwrap.errors import InvalidBound, InvalidKind
 from farwrap.operations import DIVISIONS, OPERATIONS, OVERFLOWING, SHIFTS, exact_result
-from farwrap.wholes import check_integer, is_integer, odd_inverse
+from farwrap.wholes import check_integer, factors_of_two, is_integer, odd_inverse
+from farwrap.words import check_word
 
 MOST_BITS = 128
 LONGEST_ROW = 20
@@ -84,8 +85,7 @@ def cast(kinds, n):
 def _check_operation(kind, names, name, x, y):
     """Raise the error of the first argument that an operation of these names does not take."""
     check_kind(kind)
-    if not (isinstance(name, str) and name in names):
-        raise InvalidBound("name")
+    check_word(name, names, "name")
     check_value(kind, x, "x")
     check_value(kind, y, "y")
     if name in DIVISIONS and y == 0:
@@ -119,7 +119,4 @@ def twos(kind, x):
     """Return how often 2 divides a value of a kind, the number of bits for 0."""
     check_kind(kind)
     check_value(kind, x, "x")
-    if x == 0:
-        return kind.bits
-    # Of a number and its negative, the lowest 1 is the only one that both have.
-    return (x & -x).bit_length() - 1
+    return kind.bits if x == 0 else factors_of_two(x)

@@ -2,6 +2,8 @@
 
 from farwrap.errors import InvalidBound
 
+BEYOND_SIXTY_DIGITS = 10 ** 60
+
 
 def is_integer(value):
     """Return whether an object is an integer; True and False are none."""
@@ -12,6 +14,29 @@ def check_integer(value, argument):
     """Raise the error of an argument that is not an integer."""
     if not is_integer(value):
         raise InvalidBound(argument)
+
+
+def is_sixty_digits(value):
+    """Return whether an object is an integer of at most 60 digits."""
+    return is_integer(value) and abs(value) < BEYOND_SIXTY_DIGITS
+
+
+def check_sixty_digits(value, argument):
+    """Raise the error of an argument that is not an integer of at most 60 digits."""
+    if not is_sixty_digits(value):
+        raise InvalidBound(argument)
+
+
+def check_number(j, total):
+    """Raise the error of an argument "j" that is not the number of one of so many."""
+    if not (is_integer(j) and 0 <= j < total):
+        raise InvalidBound("j")
+
+
+def factors_of_two(n):
+    """Return how often 2 divides an integer other than 0."""
+    # Of a number and its negative, the lowest 1 is the only one that both have.
+    return (n & -n).bit_length() - 1
 
 
 def toward_zero(x, y):

@@ -1,9 +1,18 @@
-"""The examples of the document: e01 to e05, and those in the text of points 5 to 8."""
+"""The examples of the document: the sessions, and those in the text of points 5 to 28."""
 
 import unittest
 
+from farwrap.comparisons import (
+    compares, first_holding, first_surprise, holding_at, holds, last_holding, overflow_total, pair_overflows,
+    pairs_within, safe_values, surprises,
+)
 from farwrap.errors import InvalidBound, InvalidKind
 from farwrap.kinds import Kind, cast, greatest, inverse, least, operate, overflows, twos, wrapped
+from farwrap.lines import (
+    descent_at, descents, first_within, greatest_result, last_within, least_result, result, total_within, within_at,
+)
+from farwrap.ranges import common_roots, root_above, root_at, root_below, root_counts, roots_within
+from farwrap.roots import least_twos, lift, most_twos, root_total, roots, value_at
 
 
 class SessionsTest(unittest.TestCase):
@@ -45,12 +54,119 @@ class SessionsTest(unittest.TestCase):
         ]
         self.assertEqual(results, [True, False, 171, None, 5, 8])
 
+    def check_error(self, argument, function, *arguments):
+        with self.assertRaises(InvalidBound) as caught:
+            function(*arguments)
+        self.assertEqual(caught.exception.argument, argument)
+
+    def test_e06(self):
+        byte = self.byte
+        self.assertEqual(
+            [roots(byte, [-1, 0, 1]), roots(byte, [0, 0, 1]), roots(byte, [256]), root_total(byte, [-1, 0, 1])],
+            [[(1, 7), (127, 7)], [(0, 4)], [(0, 0)], 4],
+        )
+
+    def test_e07(self):
+        self.assertEqual(roots(Kind(128, True), [-2 ** 100, 0, 1]), [(2 ** 50, 77), (2 ** 77 - 2 ** 50, 77)])
+
+    def test_e08(self):
+        byte, small = self.byte, self.small
+        found = [
+            lift(byte, [-1, 0, 1], 1, 1), least_twos(byte, [0, 1, 1]),
+            most_twos(byte, [3, 0, 1]), value_at(small, [3, 0, 1], 11),
+        ]
+        self.assertEqual(found, [(2, 2), 1, (2, 1), 124])
+
+    def test_e201(self):
+        self.assertEqual([result(self.byte, (3, 200), 19), result(self.small, (3, 200), 0)], [1, -56])
+
+    def test_e202(self):
+        byte = self.byte
+        self.assertEqual(
+            [total_within(byte, (3, 200), 0, 99, 0, 9), within_at(byte, (3, 200), 0, 99, 0, 9, 2)], [3, 21],
+        )
+
+    def test_e203(self):
+        self.assertEqual(total_within(Kind(128, False), (3, 0), 0, 2 ** 128 - 1, 0, 9), 10)
+
+    def test_e204(self):
+        found = [least_result(self.byte, (3, 200), 0, 99), greatest_result(self.small, (3, 200), 0, 99)]
+        self.assertEqual(found, [(1, 19), (127, 61)])
+
+    def test_e205(self):
+        byte = self.byte
+        self.assertEqual([descents(byte, (3, 200), 0, 99), descent_at(byte, (3, 200), 0, 999, 1)], [1, 103])
+
+    def test_e206(self):
+        self.check_error("j", within_at, self.byte, (3, 200), 0, 99, 0, 9, 3)
+
+    def test_e207(self):
+        byte = self.byte
+        found = [
+            compares(byte, (3, 200), "<", (1, 0), 19), holds(byte, (3, 200), "<", (1, 0), 0, 99),
+            holds(byte, (3, 200), "==", (1, 0), 0, 99),
+        ]
+        self.assertEqual(found, [True, 9, 1])
+        self.assertIs(found[0], True)
+
+    def test_e208(self):
+        byte = self.byte
+        found = [
+            first_holding(byte, (3, 200), "<", (1, 0), 0, 99), holding_at(byte, (3, 200), "<", (1, 0), 0, 99, 8),
+            last_holding(byte, (3, 200), "<", (1, 0), 0, 99),
+        ]
+        self.assertEqual(found, [19, 27, 27])
+
+    def test_e209(self):
+        byte = self.byte
+        self.assertEqual(
+            [surprises(byte, (3, 200), "<", (1, 0), 0, 99), first_surprise(byte, (1, 0), "<", (1, 1), 0, 999)], [9, 255],
+        )
+
+    def test_e210(self):
+        found = [safe_values(self.small, "multiply", -1), overflow_total(self.byte, "subtract", 5, 0, 9)]
+        self.assertEqual(found, [(-127, 127), 5])
+
+    def test_e211(self):
+        byte, span = self.byte, (100, 200)
+        found = [pair_overflows(byte, "add", span, span), pairs_within(byte, "add", span, span, 0, 9)]
+        self.assertEqual(found, [8605, 615])
+
+    def test_e212(self):
+        self.check_error("name", pair_overflows, self.byte, "multiply", (100, 200), (100, 200))
+
+    def test_e501(self):
+        square = [-1, 0, 1]
+        found = [roots_within(self.small, square, -127, 0), roots_within(self.byte, [0, 0, 1], 1, 100)]
+        self.assertEqual(found, [2, 6])
+
+    def test_e502(self):
+        square = [-1, 0, 1]
+        self.assertEqual([root_at(self.small, square, 0), root_at(self.byte, square, 3)], [-127, 255])
+
+    def test_e503(self):
+        square = [-1, 0, 1]
+        self.assertEqual([root_above(self.small, square, 1), root_below(self.small, square, -127)], [127, None])
+
+    def test_e504(self):
+        square = [-1, 0, 1]
+        found = [common_roots(self.byte, [square, [1, 1]]), common_roots(self.byte, [[0, 0, 1], [0, 32]])]
+        self.assertEqual(found, [[(255, 8)], [(0, 4)]])
+
+    def test_e505(self):
+        self.assertEqual(root_counts(self.byte, [[0, 0, 1], [0, 32]]), [224, 16, 16])
+
+    def test_e506(self):
+        self.check_error("j", root_at, self.byte, [-1, 0, 1], 4)
+
 
 class TextTest(unittest.TestCase):
 
     def setUp(self):
         self.byte = Kind(8, False)
         self.small = Kind(8, True)
+        self.line = (3, 200)
+        self.square = [-1, 0, 1]
 
     def test_point_5(self):
         self.assertEqual(least(self.small), -128)
@@ -67,6 +183,72 @@ class TextTest(unittest.TestCase):
     def test_point_8(self):
         self.assertIs(overflows(self.small, "divide", -128, -1), True)
         self.assertEqual(inverse(self.byte, 3), 171)
+
+    def test_point_9(self):
+        self.assertEqual(result(self.byte, self.line, 19), 1)
+        self.assertEqual(result(self.small, self.line, 0), -56)
+
+    def test_point_10(self):
+        self.assertEqual(total_within(self.byte, self.line, 0, 99, 0, 9), 3)
+        self.assertEqual([result(self.byte, self.line, x) for x in (19, 20, 21)], [1, 4, 7])
+
+    def test_point_11(self):
+        self.assertEqual(within_at(self.byte, self.line, 0, 99, 0, 9, 2), 21)
+        self.assertEqual(first_within(self.byte, self.line, 0, 99, 0, 9), 19)
+        self.assertEqual(last_within(self.byte, self.line, 0, 99, 0, 9), 21)
+
+    def test_point_12(self):
+        self.assertEqual(least_result(self.byte, self.line, 0, 99), (1, 19))
+        self.assertEqual(greatest_result(self.small, self.line, 0, 99), (127, 61))
+
+    def test_point_13(self):
+        self.assertEqual(descents(self.byte, self.line, 0, 99), 1)
+        self.assertEqual(descent_at(self.byte, self.line, 0, 999, 1), 103)
+
+    def test_points_14_to_16(self):
+        arguments = (self.byte, (3, 200), "<", (1, 0))
+        self.assertIs(compares(*arguments, 19), True)
+        self.assertEqual(holds(*arguments, 0, 99), 9)
+        self.assertEqual(holds(self.byte, (3, 200), "==", (1, 0), 0, 99), 1)
+        self.assertEqual(holding_at(*arguments, 0, 99, 8), 27)
+
+    def test_point_17(self):
+        self.assertEqual(surprises(self.byte, (3, 200), "<", (1, 0), 0, 99), 9)
+        self.assertEqual(first_surprise(self.byte, (1, 0), "<", (1, 1), 0, 999), 255)
+
+    def test_points_18_to_20(self):
+        self.assertEqual(safe_values(self.small, "multiply", -1), (-127, 127))
+        self.assertEqual(overflow_total(self.byte, "subtract", 5, 0, 9), 5)
+        self.assertEqual(pair_overflows(self.byte, "add", (100, 200), (100, 200)), 8605)
+        self.assertEqual(pairs_within(self.byte, "add", (100, 200), (100, 200), 0, 9), 615)
+
+    def test_point_21(self):
+        self.assertEqual(root_total(self.byte, self.square), 4)
+        for x in (1, 127, 129, 255):
+            self.assertEqual(value_at(self.byte, self.square, x), 0)
+
+    def test_point_22(self):
+        self.assertEqual(roots(self.byte, [256]), [(0, 0)])
+        self.assertEqual(roots(self.byte, [0, 0, 1]), [(0, 4)])
+        self.assertEqual(roots(self.byte, self.square), [(1, 7), (127, 7)])
+
+    def test_points_23_and_24(self):
+        self.assertEqual(lift(self.byte, self.square, 1, 1), (2, 2))
+        self.assertEqual(least_twos(self.byte, [0, 1, 1]), 1)
+        self.assertEqual(most_twos(self.byte, [3, 0, 1]), (2, 1))
+
+    def test_points_25_and_26(self):
+        self.assertEqual([root_at(self.byte, self.square, j) for j in range(4)], [1, 127, 129, 255])
+        self.assertEqual([root_at(self.small, self.square, j) for j in range(4)], [-127, -1, 1, 127])
+        self.assertEqual(roots_within(self.small, self.square, -127, 0), 2)
+        self.assertEqual(roots_within(self.byte, [0, 0, 1], 1, 100), 6)
+        self.assertEqual(root_above(self.small, self.square, 1), 127)
+        self.assertIsNone(root_below(self.small, self.square, -127))
+
+    def test_points_27_and_28(self):
+        self.assertEqual(common_roots(self.byte, [self.square, [1, 1]]), [(255, 8)])
+        self.assertEqual(common_roots(self.byte, [[0, 0, 1], [0, 32]]), [(0, 4)])
+        self.assertEqual(root_counts(self.byte, [[0, 0, 1], [0, 32]]), [224, 16, 16])
 
 
 if __name__ == "__main__":

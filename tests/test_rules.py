@@ -36,6 +36,13 @@ def bound_names(node):
     return []
 
 
+def top_names(node):
+    """The names that a statement at module level defines."""
+    if isinstance(node, ast.Assign):
+        return [target.id for target in node.targets]
+    return bound_names(node)
+
+
 class RulesTest(unittest.TestCase):
 
     def test_the_folder_holds_python_files_alone(self):
@@ -63,6 +70,39 @@ class RulesTest(unittest.TestCase):
             elif isinstance(node, ast.ImportFrom):
                 self.assertEqual(node.level, 0, name)
                 self.assertRegex(node.module, r"^farwrap\.", name)
+
+    def test_imports_name_the_file_that_defines(self):
+        files = {name[:-3]: ast.parse(text) for name, text in sources()}
+        for name, tree in files.items():
+            for node in tree.body:
+                if isinstance(node, ast.ImportFrom) and node.module.startswith("farwrap."):
+                    bound = [found for part in files[node.module[8:]].body for found in top_names(part)]
+                    for alias in node.names:
+                        self.assertIn(alias.name, bound, f"{name}: {node.module}")
+                        self.assertIsNone(alias.asname, name)
+
+    def test_no_two_files_import_from_each_other(self):
+        needs = {}
+        for name, node in nodes():
+            needs.setdefault(name[:-3], set())
+            if isinstance(node, ast.ImportFrom) and node.module.startswith("farwrap."):
+                needs[name[:-3]].add(node.module[8:])
+        done = set()
+        while len(done) < len(needs):
+            ready = [name for name in needs if name not in done and needs[name] <= done]
+            self.assertTrue(ready, "a circle of imports")
+            done.update(ready)
+
+    def test_imports_are_used_and_name_nothing_else(self):
+        for name, text in sources():
+            tree = ast.parse(text)
+            imported = {
+                alias.name for node in tree.body if isinstance(node, ast.ImportFrom) for alias in node.names
+            }
+            read = {node.id for node in ast.walk(tree) if isinstance(node, ast.Name) and isinstance(node.ctx, ast.Load)}
+            self.assertLessEqual(imported, read, name)
+            for node in ast.walk(tree):
+                self.assertFalse(imported & set(bound_names(node)), name)
 
     def test_no_name_of_a_builtin_is_bound(self):
         found = nodes()

@@ -4,8 +4,10 @@ import math
 import unittest
 from fractions import Fraction
 
-from farwrap.wholes import is_integer, odd_inverse, toward_zero
-from tests.wrong import no_integers
+from farwrap.errors import InvalidBound
+from farwrap.wholes import check_number, factors_of_two, is_integer, is_sixty_digits, odd_inverse, toward_zero
+from tests.samples import TOO_LONG
+from tests.wrong import no_integers, no_numbers, not_sixty_digits
 
 
 class IsIntegerTest(unittest.TestCase):
@@ -30,6 +32,26 @@ class HelpersTest(unittest.TestCase):
         for x in range(-20, 21):
             for y in (*range(-20, 0), *range(1, 21)):
                 self.assertEqual(toward_zero(x, y), math.trunc(Fraction(x, y)))
+
+    def test_integers_of_sixty_digits(self):
+        for value in (0, 1, -1, TOO_LONG - 1, 1 - TOO_LONG):
+            self.assertIs(is_sixty_digits(value), True)
+        for value in not_sixty_digits():
+            self.assertIs(is_sixty_digits(value), False)
+
+    def test_numbers(self):
+        for total in (0, 1, 5, 10 ** 60):
+            for j in (0, total // 2, total - 1) if total else ():
+                check_number(j, total)
+            for j in no_numbers(total):
+                with self.assertRaises(InvalidBound) as caught:
+                    check_number(j, total)
+                self.assertEqual(caught.exception.argument, "j")
+
+    def test_factors_of_two(self):
+        for count in (*range(20), 127, 128, 200):
+            for odd in (1, -1, 3, -5, 10 ** 59 + 1):
+                self.assertEqual(factors_of_two(odd * 2 ** count), count)
 
     def test_inverses_of_odd_integers(self):
         for bits in range(1, 130):

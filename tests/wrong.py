@@ -7,6 +7,7 @@ from farwrap.errors import InvalidBound
 from farwrap.kinds import Kind
 
 DEPTH = 1980
+RELATIONS = ("<", "<=", "==", "!=", ">=", ">")
 
 
 def nested_list(depth=DEPTH):
@@ -77,6 +78,72 @@ def not_values(kind):
     low = -(2 ** (bits - 1)) if is_signed else 0
     high = low + 2 ** bits - 1
     return no_integers() + [low - 1, high + 1, low - 2 ** bits, high + 2 ** bits, 10 ** 999, -(10 ** 999)]
+
+
+def no_words(words):
+    """Objects that are none of some strings."""
+    longer = ["", " ", "x" * 5000, "".join(words), " ".join(words), ",".join(words)]
+    changed = [form for word in words for form in (word + " ", " " + word, word + word, word + "\n")]
+    return no_strings() + longer + changed + [list(words), tuple(words), [words[0]], (words[0],), {words[0]}]
+
+
+def no_relations():
+    return no_words(RELATIONS) + ["=", "<>", "=<", "=>", "===", "><", "is", "in", "lt"]
+
+
+def no_operations(names):
+    others = ["add", "subtract", "multiply", "divide", "remainder", "and", "or", "xor", "left", "right"]
+    return no_words(names) + [name for name in others if name not in names] + ["Add", "ADD", "plus", "+", "-"]
+
+
+def not_sixty_digits():
+    """Objects that are no integer of at most 60 digits."""
+    return no_integers() + [10 ** 60, -(10 ** 60), 10 ** 60 + 7, 10 ** 999, -(10 ** 999)]
+
+
+def not_lines():
+    """Objects that are no tuple of two integers of at most 60 digits."""
+    parts = [True, False, None, "1", 1j, [1], (1,), {}, Kind(8, False), 10 ** 60, -(10 ** 60), 10 ** 999]
+    parts += [nested_list(), nested_tuple()]
+    halves = [pair for part in parts for pair in ((part, 1), (1, part), (part, part))]
+    rows = [[1, 2], [1], (), (1,), (1, 2, 3), ((1, 2),), (1, 2) * 500, {1: 2}, {1, 2}, "12", range(2)]
+    return no_integers() + rows + halves + [0, 1, 10 ** 60]
+
+
+def not_spans(kind):
+    """Objects that are no tuple of two values of a kind, in order."""
+    bits, is_signed = kind.parts()
+    low = -(2 ** (bits - 1)) if is_signed else 0
+    high = low + 2 ** bits - 1
+    pairs = [(high, low), (low - 1, high), (low, high + 1), (low - 1, low - 1), (high + 1, high + 1), (high, high - 1)]
+    parts = [True, False, None, "1", [low], (low,), Kind(8, False), 10 ** 999, -(10 ** 999), nested_list()]
+    halves = [pair for part in parts for pair in ((part, high), (low, part), (part, part))]
+    rows = [[low, high], [low], (), (low,), (low, high, high), ((low, high),), {low: high}, range(2), 0, low, high]
+    return no_integers() + pairs + halves + rows
+
+
+def not_polynomials():
+    """Objects that are no list of 1 to 9 integers of at most 60 digits."""
+    parts = [True, False, None, "1", 1j, b"1", [1], [], (1,), {}, Kind(8, False), 10 ** 60, -(10 ** 60), 10 ** 999]
+    parts += [nested_list(), nested_tuple()]
+    lists = [row for part in parts for row in ([part], [1, part], [part, 1], [1] * 8 + [part], [part] * 9)]
+    rows = [[], [0] * 10, [1] * 10, [1] * 400, (1,), (1, 2), {1: 2}, {1, 2}, "12", range(1, 3), b"12", 0, 1]
+    wrong = [value for value in no_integers() if value != [1]]
+    return wrong + lists + rows
+
+
+def not_lists_of_polynomials():
+    """Objects that are no list of 1 to 8 polynomials."""
+    wrong = not_polynomials()
+    alone = [[value] for value in wrong]
+    among = [[[0, 1], value] for value in wrong] + [[value, [0, 1]] for value in wrong]
+    rows = [[], [[1]] * 9, [[0, 1]] * 400, ([1],), ([0, 1], [1]), {0: [1]}, [1], [0, 1], [[1], 1], [[[1]]], 0, 1]
+    return no_integers() + rows + alone + among
+
+
+def no_numbers(total):
+    """Objects that are no integer from 0 to total - 1."""
+    return no_integers() + [-1, -total, -total - 1, total, total + 1, 2 * total + 1, 10 ** 999, -(10 ** 999)]
 
 
 def check_bounds(case, call, right, wrong):

@@ -1,0 +1,28 @@
+"""Words that arguments consist of, and the six of them that compare."""
+
+from farwrap.errors import InvalidBound
+
+RELATIONS = ("<", "<=", "==", "!=", ">=", ">")
+
+
+def check_word(word, words, argument):
+    """Raise the error of an argument that is none of these strings."""
+    if not (isinstance(word, str) and word in words):
+        raise InvalidBound(argument)
+
+
+def stands(y, relation, z):
+    """Return whether two integers stand in a relation."""
+    match relation:
+        case "<":
+            return y < z
+        case "<=":
+            return y <= z
+        case "==":
+            return y == z
+        case "!=":
+            return y != z
+        case ">=":
+            return y >= z
+        case _:
+            return y > z

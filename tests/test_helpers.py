@@ -1,0 +1,147 @@
+"""Sums, searches, families and words, which several modules share."""
+
+import math
+import unittest
+from fractions import Fraction
+
+from farwrap.families import common, contains, family_size, joined, size_inside, total_inside, total_size
+from farwrap.searches import first_wanted, last_wanted, least_passing, wanted_at
+from farwrap.sums import quotient_total, total_between
+from farwrap.words import RELATIONS, check_word, stands
+from tests.samples import shares
+from tests.wrong import check_bound, no_numbers, no_relations
+
+FAR = 10 ** 60
+
+
+class SumsTest(unittest.TestCase):
+
+    def test_quotients(self):
+        for size in (1, 2, 7, 8, 64):
+            for a in (-70, -9, -1, 0, 1, 3, 5, 8, 63, 64, 200, FAR + 1, -FAR):
+                for b in (-100, -1, 0, 1, 63, FAR):
+                    for first, last in ((0, 0), (0, 20), (-13, 6), (5, 4), (5, -FAR), (FAR, FAR + 7), (-FAR - 7, -FAR)):
+                        total = sum(math.floor(Fraction(a * x + b, size)) for x in range(first, last + 1))
+                        self.assertEqual(quotient_total((a, b), size, first, last), total)
+
+    def test_sums_of_long_ranges(self):
+        for size in (1, 2 ** 64, 2 ** 128):
+            for a, b in ((0, 7), (1, 0), (3 * size, -5 * size)):
+                for n in (1, size, 9 * size):
+                    # Whole multiples of size, or as many of each remainder.
+                    total = quotient_total((a, b), size, 0, n - 1)
+                    if a == 1:
+                        self.assertEqual(total, size * (n // size) * (n // size - 1) // 2)
+                    else:
+                        self.assertEqual(total, a // size * n * (n - 1) // 2 + b // size * n)
+
+    def test_totals_between(self):
+        for size in (1, 2, 8):
+            for low, high in ((0, size - 1), (-size, -1), (-1, size - 2), (3, 3), (2, 1), (9, 0), (0, 0)):
+                for a, b in ((3, 1), (-5, 2), (0, 3), (8, 8), (FAR, -FAR)):
+                    for first, last in ((0, 15), (-9, 3), (2, 1)):
+                        wanted = {n % size for n in range(low, high + 1)}
+                        total = sum((a * x + b) % size in wanted for x in range(first, last + 1))
+                        self.assertEqual(total_between((a, b), size, first, last, low, high), total)
+
+
+class SearchesTest(unittest.TestCase):
+
+    def test_all_sets_of_a_range(self):
+        for first in (-3, 0, 10 ** 60):
+            for many in range(7):
+                for number in range(2 ** many):
+                    wanted = [first + i for i in range(many) if number >> i & 1]
+                    self.check_wanted(wanted, first, first + many - 1)
+
+    def check_wanted(self, wanted, first, last):
+        def total_to(end):
+            return sum(x <= end for x in wanted)
+
+        self.assertEqual(first_wanted(total_to, first, last), wanted[0] if wanted else None)
+        self.assertEqual(last_wanted(total_to, first, last), wanted[-1] if wanted else None)
+        self.assertEqual([wanted_at(total_to, first, last, j) for j in range(len(wanted))], wanted)
+        named = {"total_to": total_to, "first": first, "last": last}
+        for j in (-1, len(wanted)):
+            check_bound(self, wanted_at, {**named, "j": j}, "j")
+
+    def test_numbers_are_checked(self):
+        for j in no_numbers(3):
+            check_bound(self, wanted_at, {"total_to": lambda end: end, "first": 1, "last": 3, "j": j}, "j")
+
+    def test_few_questions(self):
+        for wanted in (0, 1, 10 ** 60 // 3, 10 ** 60):
+            asked = []
+            self.assertEqual(least_passing(lambda n: asked.append(n) or n >= wanted, 0, 10 ** 60), wanted)
+            self.assertLessEqual(len(asked), 200)
+
+
+def residues(families, bits):
+    return {x for x in range(2 ** bits) if any((x - first) % 2 ** k == 0 for first, k in families)}
+
+
+def all_families(bits):
+    return [(first, k) for k in range(bits + 1) for first in range(2 ** k)]
+
+
+class FamiliesTest(unittest.TestCase):
+
+    def test_contains(self):
+        for outer in all_families(4):
+            for inner in all_families(4):
+                self.assertIs(contains(outer, inner), residues([inner], 4) <= residues([outer], 4))
+
+    def test_joined(self):
+        for bits in range(5):
+            for number in shares(range(2 ** 2 ** bits), 999):
+                wanted = {x for x in range(2 ** bits) if number >> x & 1}
+                found = joined([(x, bits) for x in sorted(wanted)], bits)
+                self.assertEqual(residues(found, bits), wanted)
+                self.assertEqual(sum(2 ** (bits - k) for _, k in found), len(wanted))
+                self.assertEqual(found, sorted(found))
+                for first, k in found:
+                    self.assertFalse(k and (first ^ 2 ** (k - 1), k) in found)
+                self.assertEqual(joined(found, bits), found)
+
+    def test_common(self):
+        for one in shares(range(2 ** 16), 60):
+            for other in shares(range(2 ** 16), 37):
+                families = joined([(x, 4) for x in range(16) if one >> x & 1], 4)
+                others = joined([(x, 4) for x in range(16) if other >> x & 1], 4)
+                shared = [(x, 4) for x in range(16) if one & other & 2 ** x]
+                self.assertEqual(common(families, others), joined(shared, 4))
+
+    def test_sizes(self):
+        for family in all_families(4):
+            self.assertEqual(family_size(family, 4), len(residues([family], 4)))
+            for number in shares(range(2 ** 16), 40):
+                families = joined([(x, 4) for x in range(16) if number >> x & 1], 4)
+                self.assertEqual(total_size(families, 4), number.bit_count())
+                self.assertEqual(size_inside(families, family, 4), len(residues([family], 4) & residues(families, 4)))
+
+    def test_totals_inside(self):
+        for families in ([], [(0, 0)], [(1, 1)], [(1, 2), (3, 3)], [(0, 128)], [(5, 4), (2, 3), (7, 3)]):
+            for first in (-40, -1, 0, 1, 5, 2 ** 128 - 3):
+                for last in range(first - 1, first + 40):
+                    total = sum((x - start) % 2 ** k == 0 for start, k in families for x in range(first, last + 1))
+                    self.assertEqual(total_inside(families, first, last), total)
+
+
+class WordsTest(unittest.TestCase):
+
+    def test_relations(self):
+        order = {"<": [-1], "<=": [-1, 0], "==": [0], "!=": [-1, 1], ">=": [0, 1], ">": [1]}
+        self.assertEqual(sorted(RELATIONS), sorted(order))
+        for relation, signs in order.items():
+            for y in (-FAR, -1, 0, 1, FAR):
+                for sign in (-1, 0, 1):
+                    self.assertIs(stands(y + sign, relation, y), sign in signs)
+            check_word(relation, RELATIONS, "relation")
+
+    def test_other_words(self):
+        for word in no_relations():
+            check_bound(self, check_word, {"word": word, "words": RELATIONS, "argument": "relation"}, "relation")
+
+
+if __name__ == "__main__":
+    unittest.main()
