@@ -2,7 +2,7 @@
 
 from farwrap.errors import InvalidBound, InvalidKind
 from farwrap.operations import DIVISIONS, OPERATIONS, OVERFLOWING, SHIFTS, exact_result
-from farwrap.wholes import check_integer, factors_of_two, is_integer, odd_inverse
+from farwrap.wholes import check_integer, is_integer, odd_inverse, twos_in
 from farwrap.words import check_word
 
 MOST_BITS = 128
@@ -119,4 +119,4 @@ def twos(kind, x):
     """Return how often 2 divides a value of a kind, the number of bits for 0."""
     check_kind(kind)
     check_value(kind, x, "x")
-    return kind.bits if x == 0 else factors_of_two(x)
+    return twos_in(x, kind.bits)

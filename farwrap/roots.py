@@ -4,7 +4,7 @@ from farwrap.errors import InvalidBound
 from farwrap.families import joined, size_inside, total_size
 from farwrap.kinds import check_kind, wrapped
 from farwrap.searches import least_passing
-from farwrap.wholes import check_integer, factors_of_two, is_integer, is_sixty_digits
+from farwrap.wholes import check_integer, factors_of_two, is_integer, is_sixty_digits, twos_in
 
 MOST_COEFFICIENTS = 9
 
@@ -123,8 +123,7 @@ def least_twos(kind, polynomial):
     check_polynomial(kind, polynomial)
     size = 1 << kind.bits
     # Each value is a sum of multiples of the first ones, as many as there are coefficients.
-    values = [_value(polynomial, x, size) for x in range(len(polynomial))]
-    return min([factors_of_two(value) if value != 0 else kind.bits for value in values])
+    return min([twos_in(_value(polynomial, x, size), kind.bits) for x in range(len(polynomial))])
 
 
 def most_twos(kind, polynomial):

@@ -27,9 +27,20 @@ def check_sixty_digits(value, argument):
         raise InvalidBound(argument)
 
 
+def is_count(value):
+    """Return whether an object is an integer from 0 on."""
+    return is_integer(value) and value >= 0
+
+
+def check_count(value, argument):
+    """Raise the error of an argument that is not an integer from 0 on."""
+    if not is_count(value):
+        raise InvalidBound(argument)
+
+
 def check_number(j, total):
     """Raise the error of an argument "j" that is not the number of one of so many."""
-    if not (is_integer(j) and 0 <= j < total):
+    if not (is_count(j) and j < total):
         raise InvalidBound("j")
 
 
@@ -37,6 +48,11 @@ def factors_of_two(n):
     """Return how often 2 divides an integer other than 0."""
     # Of a number and its negative, the lowest 1 is the only one that both have.
     return (n & -n).bit_length() - 1
+
+
+def twos_in(n, most):
+    """Return how often 2 divides an integer, `most` if that is more often."""
+    return most if n % (1 << most) == 0 else factors_of_two(n)
 
 
 def toward_zero(x, y):

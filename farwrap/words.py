@@ -5,9 +5,14 @@ from farwrap.errors import InvalidBound
 RELATIONS = ("<", "<=", "==", "!=", ">=", ">")
 
 
+def is_word(value, words):
+    """Return whether an object is one of these strings."""
+    return isinstance(value, str) and value in words
+
+
 def check_word(word, words, argument):
     """Raise the error of an argument that is none of these strings."""
-    if not (isinstance(word, str) and word in words):
+    if not is_word(word, words):
         raise InvalidBound(argument)
 
 

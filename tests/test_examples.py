@@ -1,4 +1,4 @@
-"""The examples of the document: the sessions, and those in the text of points 5 to 28."""
+"""The examples of the document: the sessions, and those in the text of points 5 to 41."""
 
 import unittest
 
@@ -7,10 +7,13 @@ from farwrap.comparisons import (
     pairs_within, safe_values, surprises,
 )
 from farwrap.errors import InvalidBound, InvalidKind
+from farwrap.generators import ring_lengths, ring_of, ring_values, stepped
 from farwrap.kinds import Kind, cast, greatest, inverse, least, operate, overflows, twos, wrapped
 from farwrap.lines import (
     descent_at, descents, first_within, greatest_result, last_within, least_result, result, total_within, within_at,
 )
+from farwrap.logarithms import all_steps, first_met, low_steps, steps_between
+from farwrap.loops import end_value, endless_starts, first_round, round_value, rounds, rounds_within, wraps
 from farwrap.ranges import common_roots, root_above, root_at, root_below, root_counts, roots_within
 from farwrap.roots import least_twos, lift, most_twos, root_total, roots, value_at
 
@@ -135,6 +138,61 @@ class SessionsTest(unittest.TestCase):
     def test_e212(self):
         self.check_error("name", pair_overflows, self.byte, "multiply", (100, 200), (100, 200))
 
+    def test_e401(self):
+        byte = self.byte
+        found = [rounds(byte, (0, "<", 10, 3)), rounds(byte, (250, "<=", 255, 1)), rounds(Kind(8, True), (120, ">", 0, 5))]
+        self.assertEqual(found, [4, None, 2])
+
+    def test_e402(self):
+        found = [round_value(Kind(8, False), (0, "<", 10, 3), 3), end_value(Kind(8, True), (120, ">", 0, 5))]
+        self.assertEqual(found, [9, -126])
+
+    def test_e403(self):
+        self.assertEqual(wraps(Kind(8, True), (120, ">", 0, 5), 2), 1)
+
+    def test_e404(self):
+        self.check_error("n", wraps, Kind(8, True), (120, ">", 0, 5), 3)
+
+    def test_e405(self):
+        loop = (0, "!=", 1, 7)
+        found = [first_round(Kind(8, False), loop, 250, 255), rounds_within(Kind(8, False), loop, 250, 255, 100)]
+        self.assertEqual(found, [36, 2])
+
+    def test_e406(self):
+        byte = self.byte
+        self.assertEqual([endless_starts(byte, "!=", 6, 2), endless_starts(byte, "<", 250, 8)], [128, 64])
+
+    def test_e407(self):
+        self.assertEqual([stepped(self.byte, (5, 3), 1, 2), stepped(self.byte, (5, 3), 8, -1)], [43, 1])
+
+    def test_e408(self):
+        self.assertEqual([ring_of(self.byte, (5, 3), 1), ring_of(self.byte, (4, 3), 1)], [(0, 256), (4, 1)])
+
+    def test_e409(self):
+        lengths = [(1, 4), (2, 2), (4, 2), (8, 2), (16, 2), (32, 2), (64, 2)]
+        self.assertEqual(ring_lengths(Kind(8, False), (5, 0)), lengths)
+
+    def test_e410(self):
+        byte = self.byte
+        found = [ring_values(byte, (5, 0), 1), ring_values(byte, (3, 0), 1), ring_values(byte, (4, 3), 1)]
+        self.assertEqual(found, [[(1, 2)], [(1, 3), (3, 3)], [(255, 8)]])
+
+    def test_e411(self):
+        byte = self.byte
+        self.assertEqual([steps_between(byte, (5, 3), 1, 43), steps_between(byte, (3, 0), 1, 5)], [2, None])
+
+    def test_e412(self):
+        byte = self.byte
+        found = [all_steps(byte, (3, 0), 1, 9), all_steps(byte, (4, 3), 1, 31), all_steps(byte, (4, 3), 1, 255)]
+        self.assertEqual(found, [(2, 64), (2, 0), (4, 1)])
+
+    def test_e413(self):
+        byte = self.byte
+        self.assertEqual([low_steps(byte, (5, 3), 1, 3, 4), low_steps(byte, (5, 3), 1, 0, 0)], [(10, 16), (0, 1)])
+
+    def test_e414(self):
+        self.assertEqual(first_met(Kind(8, False), (5, 3), 1, [218, 43]), (2, 43))
+
     def test_e501(self):
         square = [-1, 0, 1]
         found = [roots_within(self.small, square, -127, 0), roots_within(self.byte, [0, 0, 1], 1, 100)]
@@ -249,6 +307,44 @@ class TextTest(unittest.TestCase):
         self.assertEqual(common_roots(self.byte, [self.square, [1, 1]]), [(255, 8)])
         self.assertEqual(common_roots(self.byte, [[0, 0, 1], [0, 32]]), [(0, 4)])
         self.assertEqual(root_counts(self.byte, [[0, 0, 1], [0, 32]]), [224, 16, 16])
+
+    def test_points_29_to_31(self):
+        byte, small = self.byte, self.small
+        self.assertEqual(rounds(byte, (0, "<", 10, 3)), 4)
+        self.assertIsNone(rounds(byte, (250, "<=", 255, 1)))
+        self.assertEqual(rounds(small, (120, ">", 0, 5)), 2)
+        self.assertEqual(round_value(byte, (0, "<", 10, 3), 3), 9)
+        self.assertEqual(end_value(small, (120, ">", 0, 5)), -126)
+        self.assertEqual(wraps(small, (120, ">", 0, 5), 2), 1)
+
+    def test_points_32_and_33(self):
+        self.assertEqual(first_round(self.byte, (0, "!=", 1, 7), 250, 255), 36)
+        self.assertEqual(rounds_within(self.byte, (0, "!=", 1, 7), 250, 255, 100), 2)
+        self.assertEqual(endless_starts(self.byte, "!=", 6, 2), 128)
+        self.assertEqual(endless_starts(self.byte, "<", 250, 8), 64)
+
+    def test_points_34_to_37(self):
+        byte = self.byte
+        self.assertEqual(stepped(byte, (5, 3), 1, 2), 43)
+        self.assertEqual(stepped(byte, (5, 3), 8, -1), 1)
+        self.assertEqual(ring_of(byte, (5, 3), 1), (0, 256))
+        self.assertEqual(ring_of(byte, (4, 3), 1), (4, 1))
+        self.assertEqual([stepped(byte, (4, 3), 1, n) for n in range(6)], [1, 7, 31, 127, 255, 255])
+        self.assertEqual(ring_lengths(byte, (5, 0)), [(1, 4), (2, 2), (4, 2), (8, 2), (16, 2), (32, 2), (64, 2)])
+        self.assertEqual(ring_values(byte, (5, 0), 1), [(1, 2)])
+        self.assertEqual(ring_values(byte, (3, 0), 1), [(1, 3), (3, 3)])
+        self.assertEqual(ring_values(byte, (4, 3), 1), [(255, 8)])
+
+    def test_points_38_to_41(self):
+        byte = self.byte
+        self.assertEqual(steps_between(byte, (5, 3), 1, 43), 2)
+        self.assertIsNone(steps_between(byte, (3, 0), 1, 5))
+        self.assertEqual(all_steps(byte, (3, 0), 1, 9), (2, 64))
+        self.assertEqual(all_steps(byte, (4, 3), 1, 31), (2, 0))
+        self.assertEqual(all_steps(byte, (4, 3), 1, 255), (4, 1))
+        self.assertEqual(low_steps(byte, (5, 3), 1, 3, 4), (10, 16))
+        self.assertEqual(low_steps(byte, (5, 3), 1, 0, 0), (0, 1))
+        self.assertEqual(first_met(byte, (5, 3), 1, [218, 43]), (2, 43))
 
 
 if __name__ == "__main__":

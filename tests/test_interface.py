@@ -57,6 +57,27 @@ FUNCTIONS = {
         "common_roots": ["kind", "polynomials"],
         "root_counts": ["kind", "polynomials"],
     },
+    "farwrap.loops": {
+        "rounds": ["kind", "loop"],
+        "round_value": ["kind", "loop", "n"],
+        "end_value": ["kind", "loop"],
+        "wraps": ["kind", "loop", "n"],
+        "first_round": ["kind", "loop", "low", "high"],
+        "rounds_within": ["kind", "loop", "low", "high", "n"],
+        "endless_starts": ["kind", "word", "b", "c"],
+    },
+    "farwrap.generators": {
+        "stepped": ["kind", "generator", "x", "n"],
+        "ring_of": ["kind", "generator", "x"],
+        "ring_lengths": ["kind", "generator"],
+        "ring_values": ["kind", "generator", "x"],
+    },
+    "farwrap.logarithms": {
+        "steps_between": ["kind", "generator", "x", "y"],
+        "all_steps": ["kind", "generator", "x", "y"],
+        "low_steps": ["kind", "generator", "x", "y", "bits"],
+        "first_met": ["kind", "generator", "x", "some"],
+    },
 }
 CLASSES = {
     "farwrap.errors": {

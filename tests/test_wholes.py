@@ -5,9 +5,11 @@ import unittest
 from fractions import Fraction
 
 from farwrap.errors import InvalidBound
-from farwrap.wholes import check_number, factors_of_two, is_integer, is_sixty_digits, odd_inverse, toward_zero
-from tests.samples import TOO_LONG
-from tests.wrong import no_integers, no_numbers, not_sixty_digits
+from farwrap.wholes import (
+    check_count, check_number, factors_of_two, is_count, is_integer, is_sixty_digits, odd_inverse, toward_zero, twos_in,
+)
+from tests.samples import HUGE, TOO_LONG
+from tests.wrong import no_counts, no_integers, no_numbers, not_sixty_digits
 
 
 class IsIntegerTest(unittest.TestCase):
@@ -47,6 +49,23 @@ class HelpersTest(unittest.TestCase):
                 with self.assertRaises(InvalidBound) as caught:
                     check_number(j, total)
                 self.assertEqual(caught.exception.argument, "j")
+
+    def test_counts(self):
+        for value in (0, 1, 2 ** 128, HUGE):
+            self.assertIs(is_count(value), True)
+            check_count(value, "n")
+        for value in no_counts():
+            self.assertIs(is_count(value), False)
+            with self.assertRaises(InvalidBound) as caught:
+                check_count(value, "n")
+            self.assertEqual(caught.exception.argument, "n")
+
+    def test_twos_up_to_a_limit(self):
+        for most in (0, 1, 5, 128):
+            for odd in (1, -1, 3, -5, 10 ** 59 + 1):
+                for count in (0, 1, 4, 5, 6, 127, 128, 200):
+                    self.assertEqual(twos_in(odd * 2 ** count, most), min(count, most))
+            self.assertEqual(twos_in(0, most), most)
 
     def test_factors_of_two(self):
         for count in (*range(20), 127, 128, 200):

@@ -141,6 +141,51 @@ def not_lists_of_polynomials():
     return no_integers() + rows + alone + among
 
 
+def no_counts():
+    """Objects that are no integer from 0 on."""
+    return no_integers() + [-1, -2, -(2 ** 128), -(10 ** 999)]
+
+
+def not_loops(kind):
+    """Objects that are no loop of a kind, worked out from its parts."""
+    bits, is_signed = kind.parts()
+    low = -(2 ** (bits - 1)) if is_signed else 0
+    high = low + 2 ** bits - 1
+    parts = [True, False, None, "<", 1j, [low], (low,), {}, Kind(8, False), low - 1, high + 1, 10 ** 999, -(10 ** 999)]
+    parts += [nested_list(), nested_tuple()]
+    words = [True, 0, None, "", "=", "<>", "<<", " <", "< ", b"<", ["<"], ("<",), {"<"}, "add", nested_list()]
+    loops = [loop for part in parts for loop in ((part, "<", high, low), (low, "<", part, high), (low, "<", high, part))]
+    loops += [(low, word, high, high) for word in words] + [(part, part, part, part) for part in parts]
+    rows = [[low, "<", high, low], [], (), (low,), (low, "<", high), (low, "<", high, low, low), ((low, "<", high, low),)]
+    rows += ["low", "<<<<", {low: "<"}, ("<", low, high, low), (low, high, "<", low), (low, low, low, low), low, high]
+    return no_integers() + loops + rows
+
+
+def not_generators(kind):
+    """Objects that are no tuple of two values of a kind, worked out from its parts."""
+    bits, is_signed = kind.parts()
+    low = -(2 ** (bits - 1)) if is_signed else 0
+    high = low + 2 ** bits - 1
+    parts = [True, False, None, "1", 1j, [low], (low,), {}, Kind(8, False), low - 1, high + 1, 10 ** 999, -(10 ** 999)]
+    parts += [nested_list(), nested_tuple()]
+    halves = [pair for part in parts for pair in ((part, low), (high, part), (part, part))]
+    rows = [[low, high], [low], (), (low,), (low, high, high), ((low, high),), {low: high}, range(2), "12", low, high]
+    return no_integers() + halves + rows
+
+
+def not_choices(kind):
+    """Objects that are no list of 1 to 20 values of a kind, worked out from its parts."""
+    bits, is_signed = kind.parts()
+    low = -(2 ** (bits - 1)) if is_signed else 0
+    high = low + 2 ** bits - 1
+    parts = [True, False, None, "1", 1j, [low], [], (low,), {}, kind, low - 1, high + 1, 10 ** 999, -(10 ** 999)]
+    parts += [nested_list(), nested_tuple()]
+    lists = [row for part in parts for row in ([part], [low, part], [part, low], [low] * 19 + [part], [part] * 20)]
+    rows = [[], [low] * 21, [high] * 400, (), (low,), (low, high), {low: high}, {low, high}, range(2), "12", low, high]
+    wrong = [value for value in no_integers() if value != [1]]
+    return wrong + lists + rows
+
+
 def no_numbers(total):
     """Objects that are no integer from 0 to total - 1."""
     return no_integers() + [-1, -total, -total - 1, total, total + 1, 2 * total + 1, 10 ** 999, -(10 ** 999)]
