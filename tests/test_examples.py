@@ -1,12 +1,19 @@
-"""The examples of the document: the sessions, and those in the text of points 5 to 41."""
+"""The examples of the document: the sessions, and those in the text of points 5 to 57."""
 
 import unittest
 
+from farwrap.alike import (
+    are_alike, argument_of, first_unlike, normal_form, of_form, permutes, unlike_at, unlike_total,
+)
+from farwrap.casts import (
+    apart_at, apart_total, do_same, origin_at, origin_total, results, shortest, shortest_for, survivor_total, survivors,
+)
 from farwrap.comparisons import (
     compares, first_holding, first_surprise, holding_at, holds, last_holding, overflow_total, pair_overflows,
     pairs_within, safe_values, surprises,
 )
-from farwrap.errors import InvalidBound, InvalidKind
+from farwrap.desks import Desk, replay
+from farwrap.errors import InvalidBound, InvalidCall, InvalidKind
 from farwrap.generators import ring_lengths, ring_of, ring_values, stepped
 from farwrap.kinds import Kind, cast, greatest, inverse, least, operate, overflows, twos, wrapped
 from farwrap.lines import (
@@ -14,6 +21,7 @@ from farwrap.lines import (
 )
 from farwrap.logarithms import all_steps, first_met, low_steps, steps_between
 from farwrap.loops import end_value, endless_starts, first_round, round_value, rounds, rounds_within, wraps
+from farwrap.meetings import first_meeting, meeting_at, meetings, nearness
 from farwrap.ranges import common_roots, root_above, root_at, root_below, root_counts, roots_within
 from farwrap.roots import least_twos, lift, most_twos, root_total, roots, value_at
 
@@ -23,6 +31,7 @@ class SessionsTest(unittest.TestCase):
     def setUp(self):
         self.byte = Kind(8, False)
         self.small = Kind(8, True)
+        self.word = Kind(16, False)
 
     def test_e01(self):
         with self.assertRaises(InvalidKind) as caught:
@@ -79,6 +88,21 @@ class SessionsTest(unittest.TestCase):
             most_twos(byte, [3, 0, 1]), value_at(small, [3, 0, 1], 11),
         ]
         self.assertEqual(found, [(2, 2), 1, (2, 1), 124])
+
+    def test_e09(self):
+        arguments = (self.byte, (1, 1), 0, (1, 3), 10)
+        found = [meetings(*arguments), first_meeting(*arguments, 124), meeting_at(*arguments, 4)]
+        self.assertEqual(found, [[(123, 7)], 251, 635])
+
+    def test_e10(self):
+        byte = self.byte
+        found = [
+            meetings(byte, (5, 1), 3, (5, 1), 3), meetings(byte, (5, 1), 3, (5, 1), 4), nearness(byte, (1, 2), 0, (1, 4), 1),
+        ]
+        self.assertEqual(found, [[(0, 0)], [], (0, 0)])
+
+    def test_e11(self):
+        self.check_error("one", meetings, self.byte, (4, 1), 0, (1, 3), 10)
 
     def test_e201(self):
         self.assertEqual([result(self.byte, (3, 200), 19), result(self.small, (3, 200), 0)], [1, -56])
@@ -217,6 +241,101 @@ class SessionsTest(unittest.TestCase):
     def test_e506(self):
         self.check_error("j", root_at, self.byte, [-1, 0, 1], 4)
 
+    def test_e507(self):
+        byte = self.byte
+        self.assertEqual([are_alike(byte, [0, 128, 128], [0]), first_unlike(byte, [0, 1], [0, 0, 1])], [True, 2])
+
+    def test_e508(self):
+        found = [
+            unlike_total(self.byte, [0, 1], [0, 0, 1], 0, 255), unlike_at(self.small, [0, 1], [0, 0, 1], -1, 9, 1),
+        ]
+        self.assertEqual(found, [254, 2])
+
+    def test_e509(self):
+        found = [normal_form(self.byte, [0, 128, 128]), normal_form(self.byte, [0, 0, 1]), of_form([0, 1, 1])]
+        self.assertEqual(found, [[], [0, 1, 1], [0, 0, 1]])
+
+    def test_e510(self):
+        byte = self.byte
+        found = [permutes(byte, [0, 1, 2]), permutes(byte, [0, 1, 1]), argument_of(byte, [0, 1, 2], 10)]
+        self.assertEqual(found, [True, False, 2])
+
+    def test_e511(self):
+        self.check_error("polynomial", argument_of, self.byte, [0, 2], 10)
+
+    def test_e701(self):
+        row = shortest([self.small, Kind(16, False), Kind(32, True)])
+        found = [row == [self.small, Kind(16, False)], len(row), do_same([Kind(16, True), self.byte], [self.byte])]
+        self.assertEqual(found, [True, 2, True])
+
+    def test_e702(self):
+        byte, small = self.byte, self.small
+        self.assertEqual(shortest([byte, small]), [small])
+        self.assertEqual(shortest([small, byte]), [byte])
+        self.assertEqual(shortest([small, small, small]), [small])
+
+    def test_e703(self):
+        byte, small, word = self.byte, self.small, self.word
+        found = [survivors(byte, [small]), survivors(word, [small, word]), survivor_total(word, [small, word])]
+        self.assertEqual(found, [[(0, 127)], [(0, 127), (65408, 65535)], 256])
+
+    def test_e704(self):
+        found = [
+            results(self.small, [self.word]), results(self.byte, [self.small]), results(self.word, [Kind(1, True)]),
+        ]
+        self.assertEqual(found, [[(0, 127), (65408, 65535)], [(-128, 127)], [(-1, 0)]])
+
+    def test_e705(self):
+        small, word = self.small, self.word
+        found = [origin_total(word, [small], -1), origin_at(word, [small], -1, 1), origin_total(word, [small], 128)]
+        self.assertEqual(found, [256, 511, 0])
+
+    def test_e706(self):
+        self.check_error("j", origin_at, self.word, [self.small], 128, 0)
+
+    def test_e707(self):
+        byte, small = self.byte, self.small
+        found = [
+            apart_total(byte, [small], [byte]), apart_at(byte, [small], [byte], 0), apart_total(small, [byte], [small]),
+        ]
+        self.assertEqual(found, [128, 128, 128])
+
+    def test_e708(self):
+        self.assertEqual(shortest_for(self.byte, [Kind(16, True), Kind(32, False)]), [self.byte])
+        self.assertEqual(shortest_for(self.small, [Kind(9, True), self.word]), [self.word])
+
+    def test_e709(self):
+        self.check_error("kinds", survivors, self.byte, [])
+
+    def test_e710(self):
+        desk = Desk([self.byte, self.small])
+        one = desk.do(("put", 0, 300))
+        two = desk.do(("multiply", 1, 0, 0))
+        self.assertEqual([one, two, desk.now()[1], desk.wraps()], [44, -112, [44, -112], [0, 1]])
+
+    def test_e711(self):
+        desk = Desk([self.byte, self.small])
+        with self.assertRaises(InvalidCall) as caught:
+            desk.do(("divide", 0, 0, 1))
+        self.assertEqual(caught.exception.call, ("divide", 0, 0, 1))
+
+    def test_e712(self):
+        desk = replay([self.byte, self.small], [("put", 0, 3), ("put", 1, 1), ("steps", 1, 0, 0, 5)])
+        self.assertIsNone(desk.undo(1))
+        found = [desk.before(0)[1], desk.before(2)[1], desk.waiting(), desk.wraps()]
+        self.assertEqual(found, [[3, 1], [0, 0], [("steps", 1, 0, 0, 5)], []])
+
+    def test_e713(self):
+        desk = replay([self.byte, self.small], [("put", 0, 3), ("put", 1, 1), ("steps", 1, 0, 0, 5)])
+        self.assertEqual([desk.now()[1], desk.wraps()], [[3, 94], []])
+
+    def test_e714(self):
+        byte, small = self.byte, self.small
+        desk = Desk([byte, small])
+        one = desk.do(("put", 0, 200))
+        two = desk.do(("kind", 0, small))
+        self.assertEqual([one, two, desk.now()[0] == [small, small], desk.wraps()], [200, -56, True, [1]])
+
 
 class TextTest(unittest.TestCase):
 
@@ -345,6 +464,47 @@ class TextTest(unittest.TestCase):
         self.assertEqual(low_steps(byte, (5, 3), 1, 3, 4), (10, 16))
         self.assertEqual(low_steps(byte, (5, 3), 1, 0, 0), (0, 1))
         self.assertEqual(first_met(byte, (5, 3), 1, [218, 43]), (2, 43))
+
+    def test_points_43_to_45(self):
+        arguments = (self.byte, (1, 1), 0, (1, 3), 10)
+        self.assertEqual(meetings(*arguments), [(123, 7)])
+        self.assertEqual(meetings(self.byte, (5, 1), 3, (5, 1), 3), [(0, 0)])
+        self.assertEqual(first_meeting(*arguments, 124), 251)
+        self.assertEqual(meeting_at(*arguments, 4), 635)
+        self.assertEqual(nearness(self.byte, (1, 2), 0, (1, 4), 1), (0, 0))
+
+    def test_points_46_and_47(self):
+        self.assertIs(are_alike(self.byte, [0, 128, 128], [0]), True)
+        self.assertEqual(first_unlike(self.byte, [0, 1], [0, 0, 1]), 2)
+        self.assertEqual(unlike_total(self.byte, [0, 1], [0, 0, 1], 0, 255), 254)
+        self.assertEqual(unlike_at(self.small, [0, 1], [0, 0, 1], -1, 9, 1), 2)
+
+    def test_points_48_and_49(self):
+        self.assertEqual(normal_form(self.byte, [0, 128, 128]), [])
+        self.assertEqual(normal_form(self.byte, [0, 0, 1]), [0, 1, 1])
+        self.assertEqual(of_form([0, 1, 1]), [0, 0, 1])
+        self.assertIs(permutes(self.byte, [0, 1, 2]), True)
+        self.assertEqual(argument_of(self.byte, [0, 1, 2], 10), 2)
+
+    def test_points_50_to_53(self):
+        byte, small = self.byte, self.small
+        self.assertEqual(shortest([small, Kind(16, False), Kind(32, True)]), [small, Kind(16, False)])
+        self.assertIs(do_same([Kind(16, True), byte], [byte]), True)
+        self.assertEqual(survivors(byte, [small]), [(0, 127)])
+        self.assertEqual(survivors(Kind(16, False), [small, Kind(16, False)]), [(0, 127), (65408, 65535)])
+        self.assertEqual(results(small, [Kind(16, False)]), [(0, 127), (65408, 65535)])
+        self.assertEqual(origin_at(Kind(16, False), [small], -1, 1), 511)
+        self.assertEqual(origin_at(Kind(16, False), [small], -1, 0), 255)
+        self.assertEqual(apart_at(byte, [small], [byte], 0), 128)
+        self.assertEqual(shortest_for(byte, [Kind(16, True), Kind(32, False)]), [byte])
+
+    def test_points_55_and_57(self):
+        desk = Desk([self.byte, self.small])
+        self.assertEqual(desk.do(("put", 0, 300)), 44)
+        self.assertEqual(desk.do(("multiply", 1, 0, 0)), -112)
+        with self.assertRaises(InvalidCall):
+            desk.do(("divide", 0, 0, 2))
+        self.assertEqual(desk.wraps(), [0, 1])
 
 
 if __name__ == "__main__":

@@ -78,6 +78,36 @@ FUNCTIONS = {
         "low_steps": ["kind", "generator", "x", "y", "bits"],
         "first_met": ["kind", "generator", "x", "some"],
     },
+    "farwrap.meetings": {
+        "meetings": ["kind", "one", "x", "other", "y"],
+        "meeting_total": ["kind", "one", "x", "other", "y"],
+        "first_meeting": ["kind", "one", "x", "other", "y", "first"],
+        "meeting_at": ["kind", "one", "x", "other", "y", "j"],
+        "nearness": ["kind", "one", "x", "other", "y"],
+    },
+    "farwrap.alike": {
+        "are_alike": ["kind", "one", "other"],
+        "first_unlike": ["kind", "one", "other"],
+        "unlike_total": ["kind", "one", "other", "first", "last"],
+        "unlike_at": ["kind", "one", "other", "first", "last", "j"],
+        "normal_form": ["kind", "polynomial"],
+        "of_form": ["form"],
+        "permutes": ["kind", "polynomial"],
+        "argument_of": ["kind", "polynomial", "y"],
+    },
+    "farwrap.casts": {
+        "do_same": ["kinds", "others"],
+        "shortest": ["kinds"],
+        "survivors": ["kind", "kinds"],
+        "survivor_total": ["kind", "kinds"],
+        "results": ["kind", "kinds"],
+        "origin_total": ["kind", "kinds", "y"],
+        "origin_at": ["kind", "kinds", "y", "j"],
+        "apart_total": ["kind", "kinds", "others"],
+        "apart_at": ["kind", "kinds", "others", "j"],
+        "shortest_for": ["kind", "kinds"],
+    },
+    "farwrap.desks": {"replay": ["kinds", "calls"]},
 }
 CLASSES = {
     "farwrap.errors": {
@@ -88,6 +118,12 @@ CLASSES = {
         "LimitExceeded": (["limit"], {}),
     },
     "farwrap.kinds": {"Kind": (["bits", "is_signed"], {"parts": [], "__eq__": ["other"]})},
+    "farwrap.desks": {
+        "Desk": (["kinds"], {
+            "now": [], "do": ["call"], "undo": ["count"], "redo": ["count"], "before": ["count"],
+            "log": [], "waiting": [], "wraps": [], "__eq__": ["other"],
+        }),
+    },
 }
 
 

@@ -173,6 +173,26 @@ def not_generators(kind):
     return no_integers() + halves + rows
 
 
+def not_odd_generators(kind):
+    """Objects that are no generator of a kind with an odd multiplier."""
+    bits, is_signed = kind.parts()
+    low = -(2 ** (bits - 1)) if is_signed else 0
+    high = low + 2 ** bits - 1
+    even = [a for a in (low, low + 1, high - 1, high, 0) if a % 2 == 0]
+    return not_generators(kind) + [(a, c) for a in even for c in (low, high)]
+
+
+def not_forms():
+    """Objects that are no list of 0 to 9 integers of at most 60 digits."""
+    return [value for value in not_polynomials() if value != []]
+
+
+def no_lists(most):
+    """Objects that are no list of at most so many items."""
+    wrong = [value for value in no_integers() if not isinstance(value, list)]
+    return wrong + [0, 1, [None] * (most + 1), [("put", 0, 1)] * (most + 1), (("put", 0, 1),), range(3)]
+
+
 def not_choices(kind):
     """Objects that are no list of 1 to 20 values of a kind, worked out from its parts."""
     bits, is_signed = kind.parts()
