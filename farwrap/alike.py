@@ -64,7 +64,7 @@ def unlike_at(kind, one, other, first, last, j):
     """Return number j of the values from first to last at which the values of two polynomials differ."""
     _check_range(kind, one, other, first, last)
     families = _alike_families(kind, one, other)
-    return wanted_at(lambda end: _unlike_total(families, first, end), first, last, j)
+    return wanted_at(lambda start, end: _unlike_total(families, start, end), first, last, j)
 
 
 def _without_zeros(numbers):

@@ -142,8 +142,7 @@ def apart_at(kind, kinds, others, j):
     """Return number j of the values of a kind for which two rows of casts have different results."""
     _check_two(kind, kinds, others)
     same = _same_results(kind, kinds, others)
-    low = least(kind)
-    return wanted_at(lambda end: _apart_total(same, low, end), low, greatest(kind), j)
+    return wanted_at(lambda start, end: _apart_total(same, start, end), least(kind), greatest(kind), j)
 
 
 def shortest_for(kind, kinds):

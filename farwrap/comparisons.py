@@ -1,12 +1,13 @@
 """Two lines with wrapped results compared for all x of a range, and overflow counted for whole ranges."""
 
 from farwrap.errors import InvalidBound
+from farwrap.hits import hit_at
 from farwrap.kinds import check_kind, check_value, greatest, is_value, least, wrapped
 from farwrap.lines import check_line, check_range, exact_at
-from farwrap.searches import first_wanted, last_wanted, wanted_at
+from farwrap.searches import wanted_of
 from farwrap.sums import quotient_total, total_between
-from farwrap.wholes import check_sixty_digits
-from farwrap.words import RELATIONS, check_word, stands
+from farwrap.wholes import check_number, check_sixty_digits
+from farwrap.words import RELATIONS, check_word, opposite, stands
 
 VALUE_OPERATIONS = ("add", "subtract", "multiply")
 PAIR_OPERATIONS = ("add", "subtract")
@@ -77,22 +78,75 @@ def holds(kind, one, relation, other, first, last):
     return _total(kind, one, relation, other, first, last)
 
 
+def _less_hits(kind, one, other):
+    """Return a tuple (line, low, high): one result is less than the other just where that of the line is between.
+
+    None if there is no such line, as both results and their gap change.
+    """
+    size = 1 << kind.bits
+    low, high = least(kind), greatest(kind)
+    if one[0] % size == 0:
+        return (other, wrapped(kind, one[1]) + 1, high)
+    if other[0] % size == 0:
+        return (one, low, wrapped(kind, other[1]) - 1)
+    gap = _gap(one, other)
+    # The first result is the other one and the gap. It is less just where this wraps.
+    return (one, low, low + gap[1] % size - 1) if gap[0] % size == 0 else None
+
+
+def _hits(kind, one, relation, other):
+    """Return the tuple of `_less_hits` for any relation; it is between, but for a multiple of the size."""
+    size = 1 << kind.bits
+    match relation:
+        case "==":
+            return (_gap(one, other), 0, 0)
+        case "<":
+            return _less_hits(kind, one, other)
+        case ">":
+            return _less_hits(kind, other, one)
+        case _:
+            found = _hits(kind, one, opposite(relation), other)
+    if found is None:
+        return None
+    line, low, high = found
+    return (line, high + 1, low + size - 1)
+
+
+def _holding(kind, one, relation, other, first, last, total, j):
+    """Return number j of the x from first to last for which the relation holds, which are `total`, more than j."""
+    hits = _hits(kind, one, relation, other)
+    if hits is None:
+        return wanted_of(
+            lambda start, end: _total(kind, one, relation, other, start, end), first, last, total, j,
+        )
+    line, low, high = hits
+    return hit_at(line, 1 << kind.bits, first, low, high, j)
+
+
+def _first_holding(kind, one, relation, other, first, last):
+    total = _total(kind, one, relation, other, first, last)
+    return None if total == 0 else _holding(kind, one, relation, other, first, last, total, 0)
+
+
 def first_holding(kind, one, relation, other, first, last):
     """Return the least x from first to last for which the relation holds, or None."""
     _check(kind, one, relation, other, first, last)
-    return first_wanted(lambda end: _total(kind, one, relation, other, first, end), first, last)
+    return _first_holding(kind, one, relation, other, first, last)
 
 
 def last_holding(kind, one, relation, other, first, last):
     """Return the greatest x from first to last for which the relation holds, or None."""
     _check(kind, one, relation, other, first, last)
-    return last_wanted(lambda end: _total(kind, one, relation, other, first, end), first, last)
+    total = _total(kind, one, relation, other, first, last)
+    return None if total == 0 else _holding(kind, one, relation, other, first, last, total, total - 1)
 
 
 def holding_at(kind, one, relation, other, first, last, j):
     """Return number j of the x from first to last for which the relation holds."""
     _check(kind, one, relation, other, first, last)
-    return wanted_at(lambda end: _total(kind, one, relation, other, first, end), first, last, j)
+    total = _total(kind, one, relation, other, first, last)
+    check_number(j, total)
+    return _holding(kind, one, relation, other, first, last, total, j)
 
 
 def _ordered_parts(one, other, first, last):
@@ -112,27 +166,29 @@ def _ordered_parts(one, other, first, last):
     ]
 
 
-def _surprises(kind, one, relation, other, first, last):
-    total = 0
-    for start, end in _ordered_parts(one, other, first, last):
-        holding = _total(kind, one, relation, other, start, end)
-        if stands(exact_at(one, start), relation, exact_at(other, start)):
-            total += _count(start, end) - holding
-        else:
-            total += holding
-    return total
+def _surprising_parts(one, relation, other, first, last):
+    """Return the parts of a range as tuples (first, last, relation): x is a surprise where this one holds."""
+    return [
+        (start, end, opposite(relation) if stands(exact_at(one, start), relation, exact_at(other, start)) else relation)
+        for start, end in _ordered_parts(one, other, first, last)
+    ]
 
 
 def surprises(kind, one, relation, other, first, last):
     """Return for how many x the relation holds for the results, but not unwrapped, or the other way round."""
     _check(kind, one, relation, other, first, last)
-    return _surprises(kind, one, relation, other, first, last)
+    parts = _surprising_parts(one, relation, other, first, last)
+    return sum([_total(kind, one, wanted, other, start, end) for start, end, wanted in parts])
 
 
 def first_surprise(kind, one, relation, other, first, last):
     """Return the least x that `surprises` counts, None if there is none."""
     _check(kind, one, relation, other, first, last)
-    return first_wanted(lambda end: _surprises(kind, one, relation, other, first, end), first, last)
+    for start, end, wanted in _surprising_parts(one, relation, other, first, last):
+        x = _first_holding(kind, one, wanted, other, start, end)
+        if x is not None:
+            return x
+    return None
 
 
 def _factors_between(c, low, high):

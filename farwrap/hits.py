@@ -90,13 +90,13 @@ def has_hit(line, size, low, high):
     return (high - b) // shared > (low - 1 - b) // shared
 
 
-def hit_at(line, size, low, high, j):
-    """Return number j of the x from 0 on for which a * x + b is from low to high, but for a multiple of size.
+def hit_at(line, size, first, low, high, j):
+    """Return number j of the x from first on for which a * x + b is from low to high, but for a multiple of size.
 
-    There is such an x.
+    From low to high there are at most `size` integers. There is such an x.
     """
     a, b = line
-    return _steps_to_visit(size, a % size, high - low + 1, (b - low) % size, j)
+    return first + _steps_to_visit(size, a % size, high - low + 1, (a * first + b - low) % size, j)
 
 
 def first_hit(line, size, low, high):
@@ -104,4 +104,4 @@ def first_hit(line, size, low, high):
 
     From low to high there are at most `size` integers; there may be none.
     """
-    return hit_at(line, size, low, high, 0) if has_hit(line, size, low, high) else None
+    return hit_at(line, size, 0, low, high, 0) if has_hit(line, size, low, high) else None

@@ -1,10 +1,10 @@
 """Lines a * x + b with wrapped results: where these lie, for all x of a range."""
 
 from farwrap.errors import InvalidBound
+from farwrap.hits import hit_at
 from farwrap.kinds import check_kind, check_value, greatest, least, wrapped
-from farwrap.searches import first_wanted, last_wanted, least_passing, wanted_at
-from farwrap.sums import total_between
-from farwrap.wholes import check_sixty_digits, is_sixty_digits
+from farwrap.sums import least_remainder, total_between
+from farwrap.wholes import check_number, check_sixty_digits, is_sixty_digits
 
 
 def check_line(line, argument):
@@ -51,6 +51,11 @@ def _total(kind, line, first, last, low, high):
     return total_between(line, 1 << kind.bits, first, last, low, high)
 
 
+def _hit(kind, line, first, low, high, j):
+    """Return number j of the x from first on whose result is from low to high; there is one."""
+    return hit_at(line, 1 << kind.bits, first, low, high, j)
+
+
 def total_within(kind, line, first, last, low, high):
     """Return for how many x from first to last the result is from low to high."""
     _check_within(kind, line, first, last, low, high)
@@ -60,24 +65,22 @@ def total_within(kind, line, first, last, low, high):
 def first_within(kind, line, first, last, low, high):
     """Return the least x from first to last whose result is from low to high, or None."""
     _check_within(kind, line, first, last, low, high)
-    return first_wanted(lambda end: _total(kind, line, first, end, low, high), first, last)
+    total = _total(kind, line, first, last, low, high)
+    return None if total == 0 else _hit(kind, line, first, low, high, 0)
 
 
 def last_within(kind, line, first, last, low, high):
     """Return the greatest x from first to last whose result is from low to high, or None."""
     _check_within(kind, line, first, last, low, high)
-    return last_wanted(lambda end: _total(kind, line, first, end, low, high), first, last)
+    total = _total(kind, line, first, last, low, high)
+    return None if total == 0 else _hit(kind, line, first, low, high, total - 1)
 
 
 def within_at(kind, line, first, last, low, high, j):
     """Return number j of the x from first to last whose result is from low to high."""
     _check_within(kind, line, first, last, low, high)
-    return wanted_at(lambda end: _total(kind, line, first, end, low, high), first, last, j)
-
-
-def _with_place(kind, line, first, last, y):
-    """Return the tuple of a result and of the least x that has it."""
-    return (y, first_wanted(lambda end: _total(kind, line, first, end, y, y), first, last))
+    check_number(j, _total(kind, line, first, last, low, high))
+    return _hit(kind, line, first, low, high, j)
 
 
 def least_result(kind, line, first, last):
@@ -85,9 +88,10 @@ def least_result(kind, line, first, last):
     _check(kind, line, first, last)
     if last < first:
         return None
-    low, high = least(kind), greatest(kind)
-    y = least_passing(lambda end: _total(kind, line, first, last, low, end) > 0, low, high)
-    return _with_place(kind, line, first, last, y)
+    a, b = line
+    low = least(kind)
+    y = low + least_remainder((a, b - low), 1 << kind.bits, first, last)
+    return (y, _hit(kind, line, first, y, y, 0))
 
 
 def greatest_result(kind, line, first, last):
@@ -95,26 +99,30 @@ def greatest_result(kind, line, first, last):
     _check(kind, line, first, last)
     if last < first:
         return None
-    low, high = least(kind), greatest(kind)
-    count = last - first + 1
-    y = least_passing(lambda end: _total(kind, line, first, last, low, end) == count, low, high)
-    return _with_place(kind, line, first, last, y)
+    a, b = line
+    high = greatest(kind)
+    y = high - least_remainder((-a, high - b), 1 << kind.bits, first, last)
+    return (y, _hit(kind, line, first, y, y, 0))
 
 
-def _descents(kind, line, first, last):
+def _falling(kind, line):
+    """Return the least and the greatest result behind which the next one is less; there may be none between."""
     # A step adds a, modulo the number of values. It goes down where this leads past the greatest
     # value: from the last ones, as many as are added.
     added = line[0] % (1 << kind.bits)
-    return _total(kind, line, first, last, greatest(kind) + 1 - added, greatest(kind))
+    return (greatest(kind) + 1 - added, greatest(kind))
 
 
 def descents(kind, line, first, last):
     """Return for how many x from first to last the result at x + 1 is less than at x."""
     _check(kind, line, first, last)
-    return _descents(kind, line, first, last)
+    low, high = _falling(kind, line)
+    return _total(kind, line, first, last, low, high)
 
 
 def descent_at(kind, line, first, last, j):
     """Return number j of the x from first to last at which the result at x + 1 is less than at x."""
     _check(kind, line, first, last)
-    return wanted_at(lambda end: _descents(kind, line, first, end), first, last, j)
+    low, high = _falling(kind, line)
+    check_number(j, _total(kind, line, first, last, low, high))
+    return _hit(kind, line, first, low, high, j)

@@ -115,12 +115,12 @@ def meeting_at(kind, one, x, other, y, j):
     size = 1 << kind.bits
     # They meet again as they did after as many steps as the kind has values.
     turns, rest = divmod(j, total)
-    return turns * size + wanted_at(lambda end: total_inside(families, 0, end), 0, size - 1, rest)
+    return turns * size + wanted_at(lambda start, end: total_inside(families, start, end), 0, size - 1, rest)
 
 
 def nearness(kind, one, x, other, y):
     """Return how many lowest bits of both values are equal after some number of steps at most, and the least such."""
     _check(kind, one, x, other, y)
     nearby = _nearby(one, x, other, y, kind.bits)
-    most = max([twos for _, _, twos in nearby])
+    most = max([near[2] for near in nearby])
     return (most, min([first for first, _, twos in nearby if twos == most]))

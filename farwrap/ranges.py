@@ -23,8 +23,7 @@ def root_at(kind, polynomial, j):
     """Return root number j of all in ascending order."""
     check_polynomial(kind, polynomial)
     families = root_families(polynomial, kind.bits)
-    low, high = least(kind), greatest(kind)
-    return wanted_at(lambda end: total_inside(families, low, end), low, high, j)
+    return wanted_at(lambda start, end: total_inside(families, start, end), least(kind), greatest(kind), j)
 
 
 def root_above(kind, polynomial, x):
@@ -32,7 +31,7 @@ def root_above(kind, polynomial, x):
     check_polynomial(kind, polynomial)
     check_value(kind, x, "x")
     families = root_families(polynomial, kind.bits)
-    return first_wanted(lambda end: total_inside(families, x + 1, end), x + 1, greatest(kind))
+    return first_wanted(lambda start, end: total_inside(families, start, end), x + 1, greatest(kind))
 
 
 def root_below(kind, polynomial, x):
@@ -40,8 +39,7 @@ def root_below(kind, polynomial, x):
     check_polynomial(kind, polynomial)
     check_value(kind, x, "x")
     families = root_families(polynomial, kind.bits)
-    low = least(kind)
-    return last_wanted(lambda end: total_inside(families, low, end), low, x - 1)
+    return last_wanted(lambda start, end: total_inside(families, start, end), least(kind), x - 1)
 
 
 def _all_families(kind, polynomials):

@@ -1,4 +1,4 @@
-"""Sums over all integers of a range, found in as many turns as long division has, not one by one."""
+"""Sums and least remainders over all integers of a range, found by Euclid's division, not one by one."""
 
 
 def quotient_total(line, size, first, last):
@@ -31,3 +31,22 @@ def total_between(line, size, first, last, low, high):
     a, b = line
     # The two quotients differ by the number of multiples of size that may be taken away.
     return quotient_total((a, b - low), size, first, last) - quotient_total((a, b - high - 1), size, first, last)
+
+
+def least_remainder(line, size, first, last):
+    """Return the least of a * x + b, each less a multiple of size, for all x from first to last; there is one."""
+    a, b = line
+    start, step, steps = (a * first + b) % size, a % size, last - first
+    least = start
+    while step > 0:
+        if 2 * step > size:
+            # Seen from the last one on, the same remainders go up by the rest of size.
+            start, step = (start + step * steps) % size, size - step
+            least = min(least, start)
+        laps = (start + step * steps) // size
+        if laps == 0:
+            return least
+        # Each time that size is passed there is a new least one, below step. It goes around there.
+        start, step, size, steps = (start - size) % step, -size % step, step, laps - 1
+        least = min(least, start)
+    return least

@@ -3,6 +3,7 @@
 from farwrap.errors import InvalidBound
 
 RELATIONS = ("<", "<=", "==", "!=", ">=", ">")
+OPPOSITES = {"<": ">=", "<=": ">", "==": "!=", "!=": "==", ">=": "<", ">": "<="}
 
 
 def is_word(value, words):
@@ -14,6 +15,11 @@ def check_word(word, words, argument):
     """Raise the error of an argument that is none of these strings."""
     if not is_word(word, words):
         raise InvalidBound(argument)
+
+
+def opposite(relation):
+    """Return the relation that holds just where this one does not."""
+    return OPPOSITES[relation]
 
 
 def stands(y, relation, z):

@@ -49,3 +49,19 @@ def shares(numbers, count):
     if len(numbers) <= count:
         return numbers
     return [numbers[place * (len(numbers) - 1) // (count - 1)] for place in range(count)]
+
+
+def hard_factors(size):
+    """Factors near to multiples and to simple fractions of a size, powers of two, and those of slow division."""
+    found = [0, 1, 2, 3, 5, -1, -2, -7, 10 ** 59 - 1, 1 - 10 ** 59, 10 ** 37 * 3 + 7]
+    for part in (1, 2, 3, 5, 7, 64, 1000, 10 ** 9 + 7, 2 ** 40 - 1):
+        for near in (-(2 ** 30), -3, -1, 0, 1, 2, 17, 10 ** 6, 2 ** 61):
+            found.append(size // part + near)
+    found += [2 ** k + near for k in range(1, size.bit_length(), 5) for near in (-1, 0, 1)]
+    # The quotients of these are all the same, 1 at first, which makes for most laps in laps.
+    for quotient in (1, 2, 3, 40, 2 ** 16, 2 ** 33):
+        one, two = 0, 1
+        while two * quotient < size:
+            one, two = two, quotient * two + one
+        found.append(size * one // two)
+    return sorted({factor % size for factor in found} | {factor for factor in found if abs(factor) > size})

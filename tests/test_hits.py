@@ -4,7 +4,7 @@ import unittest
 
 from farwrap.hits import first_hit, has_hit, hit_at
 from farwrap.sums import total_between
-from tests.samples import shares
+from tests.samples import hard_factors, shares
 
 FAR = 10 ** 60
 
@@ -14,22 +14,6 @@ def hits(line, size, low, high, count):
     a, b = line
     wanted = {y % size for y in range(low, high + 1)}
     return [x for x in range(count) if (a * x + b) % size in wanted]
-
-
-def hard_factors(size):
-    """Factors near to multiples and to simple fractions of a size, powers of two, and those of slow division."""
-    found = [0, 1, 2, 3, 5, -1, -2, -7, FAR, -FAR - 1, 10 ** 37 * 3 + 7]
-    for part in (1, 2, 3, 5, 7, 64, 1000, 10 ** 9 + 7, 2 ** 40 - 1):
-        for near in (-(2 ** 30), -3, -1, 0, 1, 2, 17, 10 ** 6, 2 ** 61):
-            found.append(size // part + near)
-    found += [2 ** k + near for k in range(1, size.bit_length(), 5) for near in (-1, 0, 1)]
-    # The quotients of these are all the same, 1 at first, which makes for most laps in laps.
-    for quotient in (1, 2, 3, 40, 2 ** 16, 2 ** 33):
-        one, two = 0, 1
-        while two * quotient < size:
-            one, two = two, quotient * two + one
-        found.append(size * one // two)
-    return sorted({factor % size for factor in found} | {factor for factor in found if abs(factor) > size})
 
 
 class SmallSizesTest(unittest.TestCase):
@@ -53,7 +37,7 @@ class SmallSizesTest(unittest.TestCase):
         self.assertIs(has_hit(*arguments), bool(found), arguments)
         self.assertEqual(first_hit(*arguments), found[0] if found else None, arguments)
         for j in shares(range(len(found)), 7):
-            self.assertEqual(hit_at(*arguments, j), found[j], (arguments, j))
+            self.assertEqual(hit_at(*arguments[:2], 0, *arguments[2:], j), found[j], (arguments, j))
 
 
 class WideSizesTest(unittest.TestCase):
@@ -67,15 +51,16 @@ class WideSizesTest(unittest.TestCase):
                     if has_hit(line, size, low, high):
                         for j in (0, 1, 10 ** 9, size // 5, FAR):
                             self.check_number(line, size, low, high, j)
-                        self.assertEqual(first_hit(line, size, low, high), hit_at(line, size, low, high, 0))
+                        self.assertEqual(first_hit(line, size, low, high), hit_at(line, size, 0, low, high, 0))
                     else:
                         self.assertIsNone(first_hit(line, size, low, high))
                         self.assertEqual(total_between(line, size, 0, 3 * size, low, high), 0)
 
     def check_number(self, line, size, low, high, j):
-        x = hit_at(line, size, low, high, j)
-        self.assertLessEqual((line[0] * x + line[1] - low) % size, high - low)
-        self.assertEqual(total_between(line, size, 0, x - 1, low, high), j)
+        for first in (0, 1, -(10 ** 59), size * 3 + 7):
+            x = hit_at(line, size, first, low, high, j)
+            self.assertLessEqual((line[0] * x + line[1] - low) % size, high - low)
+            self.assertEqual(total_between(line, size, first, x - 1, low, high), j)
 
 
 if __name__ == "__main__":
