@@ -104,6 +104,13 @@ class SmallKindsTest(unittest.TestCase):
                 else:
                     check_bound(self, argument_of, {"kind": kind, "polynomial": polynomial, "y": 0}, "polynomial")
 
+    def test_all_parities_of_coefficients(self):
+        for kind in (Kind(1, True), Kind(2, False), Kind(3, True)):
+            for number in range(2 ** 9):
+                polynomial = [number >> i & 1 for i in range(9)]
+                permuting = len(set(table(kind, polynomial))) == 2 ** kind.parts()[0]
+                self.assertIs(permutes(kind, polynomial), permuting, (kind.parts(), polynomial))
+
     def test_the_fact_of_point_49(self):
         for kind in all_kinds(4)[2:]:
             for polynomial in short_polynomials(3) + shares(long_polynomials(4), 60) + mixed_polynomials(60):

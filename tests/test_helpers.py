@@ -97,6 +97,20 @@ class SearchesTest(unittest.TestCase):
             self.assertEqual(least_passing(lambda n: asked.append(n) or n >= wanted, 0, 10 ** 60), wanted)
             self.assertLessEqual(len(asked), 200)
 
+    def test_very_few_questions_for_those_that_are_spread_evenly(self):
+        for many, gap in ((7, 10 ** 59), (10 ** 30 + 57, 10 ** 29), (10 ** 50 + 1, 10 ** 9), (10 ** 59 * 3, 3), (FAR - 10 ** 20, 1)):
+            for j in (0, 1, many // 3, many // 2, many * 4 // 5, many - 2, many - 1):
+                asked = []
+
+                def total(start, end):
+                    asked.append(start)
+                    return (end + 1) * many // FAR - start * many // FAR
+
+                x = wanted_at(total, 0, FAR - 1, j)
+                self.assertEqual((x * many // FAR, (x + 1) * many // FAR), (j, j + 1))
+                # Between two of them each question leaves half of the gap.
+                self.assertLessEqual(len(asked), 20 + gap.bit_length())
+
     def spreads(self):
         """Functions that tell how many are wanted below an integer, spread in all sorts of ways."""
         found = [
